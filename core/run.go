@@ -4,6 +4,7 @@ import (
 	"slices"
 
 	"bushel/api"
+	"bushel/shape"
 )
 
 // value is a value as it runs.
@@ -98,29 +99,6 @@ func (m *machine) then(e *api.Core, names *binding, name string, v value) {
 	m.next, m.names = e, &binding{name, v, names}
 }
 
-// partsMay tells whether an expression has as many parts as its kind is to have.
-func partsMay(e *api.Core) bool {
-	n := len(e.L)
-	switch e.Kind {
-	case api.CInt, api.CText, api.CVar, api.CRead:
-		return n == 0
-	case api.CFn, api.CRef, api.CGet, api.CPrint, api.CShow:
-		return n == 1
-	case api.CApp, api.CLet, api.CRec, api.CSel, api.CDel, api.CTag, api.COp, api.CSet:
-		return n == 2
-	case api.CIns, api.CPut, api.CIf:
-		return n == 3
-	case api.CTuple:
-		return true
-	case api.CCase:
-		if e.T != "" {
-			n--
-		}
-		return n == 1+2*len(e.Names)
-	}
-	return false
-}
-
 // begin begins the next expression: a step.
 func (m *machine) begin() {
 	e, names := m.next, m.names
@@ -130,7 +108,7 @@ func (m *machine) begin() {
 		return
 	}
 	m.fuel--
-	if !partsMay(e) {
+	if !shape.Parts(e) {
 		m.stuck()
 		return
 	}
