@@ -4,6 +4,7 @@ import (
 	"strconv"
 
 	"bushel/api"
+	"bushel/arith"
 )
 
 // tell prints, or shows.
@@ -21,56 +22,36 @@ func (m *machine) tell(kind int, v value) {
 
 // operate tells what an operator makes of two values.
 func (m *machine) operate(s string, a, b value) {
+	told, fault, is := value{kind: VInt}, 0, true
 	switch {
 	case s == "^" && a.kind == VText && b.kind == VText:
-		if len(a.s)+len(b.s) > api.MaxText {
-			m.fault(api.IndexRange)
-			return
-		}
-		m.push(value{kind: VText, s: a.s + b.s})
+		told.kind = VText
+		told.s, fault = arith.Join(a.s, b.s)
 	case s == "#" && a.kind == VText && b.kind == VInt:
-		if b.n < 0 || b.n >= int64(len(a.s)) {
-			m.fault(api.IndexRange)
-			return
-		}
-		m.push(value{kind: VInt, n: int64(a.s[b.n])})
-	case s != "^" && s != "#" && a.kind == VInt && b.kind == VInt:
-		m.compute(s, a.n, b.n)
+		told.n, fault = arith.Byte(a.s, b.n)
+	case a.kind == VInt && b.kind == VInt:
+		told.n, fault, is = arith.Ints(s, a.n, b.n)
 	default:
+		is = false
+	}
+	m.end(told, fault, is)
+}
+
+// end tells a value, or faults, or is stuck.
+func (m *machine) end(v value, fault int, is bool) {
+	switch {
+	case !is:
 		m.stuck()
+	case fault != 0:
+		m.fault(fault)
+	default:
+		m.push(v)
 	}
 }
 
-// compute tells what an operator makes of two integers.
-func (m *machine) compute(s string, a, b int64) {
-	switch s {
-	case "+":
-		a += b
-	case "-":
-		a -= b
-	case "*":
-		a *= b
-	case "/":
-		if b == 0 {
-			m.fault(api.DivZero)
-			return
-		}
-		a /= b
-	case "<":
-		a = truth(a < b)
-	case "==":
-		a = truth(a == b)
-	default:
-		m.stuck()
-		return
-	}
-	m.push(value{kind: VInt, n: a})
-}
-
-// truth is 1 or 0.
-func truth(is bool) int64 {
-	if is {
-		return 1
-	}
-	return 0
+// read tells the next line.
+func (m *machine) read() {
+	line, rest, fault := arith.Line(m.input)
+	m.input = rest
+	m.end(value{kind: VText, s: line}, fault, true)
 }

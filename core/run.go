@@ -142,21 +142,6 @@ func (m *machine) variable(name string, names *binding) {
 	m.stuck()
 }
 
-// read tells the next line.
-func (m *machine) read() {
-	if len(m.input) == 0 {
-		m.fault(api.InputEnd)
-		return
-	}
-	line := m.input[0]
-	m.input = m.input[1:]
-	if len(line) > api.MaxText {
-		m.fault(api.IndexRange)
-		return
-	}
-	m.push(value{kind: VText, s: line})
-}
-
 // goOn begins the next part of the last frame, or tells what that comes to.
 func (m *machine) goOn() {
 	f := &m.frames[len(m.frames)-1]
