@@ -147,6 +147,13 @@ func TestRefuses(t *testing.T) {
 		{mk(api.CTuple, wide, s(long+"x")), api.ErrCode},
 		{wide, api.ErrLimit},
 		{longCode, api.ErrLimit},
+		// Of these errors the first one counts, however long the code would be.
+		{mk(api.CTuple, longCode, v("x"), mk(99)), api.ErrScope},
+		{mk(api.CTuple, longCode, mk(99), rec("", "x", n(1), n(2))), api.ErrScope},
+		{mk(api.CTuple, longCode, mk(99), many), api.ErrLimit},
+		{mk(api.CTuple, longCode, mk(99), rec("f", "x", n(1), fn("x", n(2)))), api.ErrCode},
+		{mk(api.CTuple, longCode, op(n(1), "?", n(1))), api.ErrCode},
+		{mk(api.CTuple, longCode, rec("f", "x", n(1), fn("x", n(2)))), api.ErrLimit},
 	} {
 		m, err := gen.Image(c.e)
 		if err != c.err || err != nil && !code.Same(m, api.Image{}) {

@@ -171,12 +171,17 @@ func (w *work) deriv(n *node) api.Deriv {
 // args are the offsets that a Var tells what it stands for.
 func (w *work) args(n *node) []api.Evid {
 	var l []api.Evid
+	var row api.Type
+	last := none
 	for _, need := range n.binder.needs {
 		if n.within {
 			l = append(l, api.Evid{Row: need.Row, Label: need.Label})
 			continue
 		}
-		row := w.now(n, rest(api.TRec, n.rows[need.Row]))
+		// Needs of one row variable stand together, and there may be many.
+		if need.Row != last {
+			last, row = need.Row, w.now(n, rest(api.TRec, n.rows[need.Row]))
+		}
 		l = append(l, offset(row, need.Label))
 	}
 	return l
