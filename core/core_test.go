@@ -302,9 +302,9 @@ func TestDeep(t *testing.T) {
 	if got := end(sum, 3000000); got != "5000050000" {
 		t.Error(got)
 	}
-	nest := rec("f", "x", fn("y", when(v("x"), app(app(v("f"), op(v("x"), "-", n(1))), tuple(v("y"))), v("y"))), app(app(v("f"), n(20000)), n(0)))
-	val, out := core.Run(nest, nil, 3000000)
-	for range 20000 {
+	nest := rec("f", "x", fn("y", when(v("x"), app(app(v("f"), op(v("x"), "-", n(1))), tuple(v("y"))), v("y"))), app(app(v("f"), n(500000)), n(0)))
+	val, out := core.Run(nest, nil, 30000000)
+	for range 500000 {
 		val = val.L[0]
 	}
 	if out.Err != 0 || text(val) != "0" {

@@ -67,11 +67,26 @@ func Run(e api.Core, input []string, fuel int) (Value, api.Out) {
 	return told(&m.values[0]), m.out
 }
 
-// told is a value as it is handed out: a function is told as such alone.
+// telling is a value, and where it is told.
+type telling struct {
+	from *value
+	to   *Value
+}
+
+// told is a value as it is handed out: a function is told as such alone. Tuples may lie deep in tuples, so it is told without Go's own stack, too.
 func told(v *value) Value {
-	t := Value{Kind: v.kind, N: v.n, S: v.s}
-	for i := range v.l {
-		t.L = append(t.L, told(&v.l[i]))
+	var t Value
+	for todo := []telling{{v, &t}}; len(todo) > 0; {
+		next := todo[len(todo)-1]
+		todo = todo[:len(todo)-1]
+		from, to := next.from, next.to
+		*to = Value{Kind: from.kind, N: from.n, S: from.s}
+		if len(from.l) > 0 {
+			to.L = make([]Value, len(from.l))
+		}
+		for i := range from.l {
+			todo = append(todo, telling{&from.l[i], &to.L[i]})
+		}
 	}
 	return t
 }

@@ -71,6 +71,10 @@ func (w *work) generalize(n *node, names []*binder) {
 	}
 	types, rows := typ.Vars(t)
 	metTypes, metRows := map[int]struct{}{}, map[int]struct{}{}
+	if len(types)+len(rows) == 0 {
+		// Of other names' types, which may be great, nothing is asked then.
+		names = nil
+	}
 	for _, other := range names {
 		if !w.meet(other, metTypes, metRows) {
 			b.any = true
