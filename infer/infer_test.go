@@ -2,6 +2,7 @@ package infer_test
 
 import (
 	"errors"
+	"fmt"
 	"slices"
 	"strconv"
 	"strings"
@@ -222,6 +223,58 @@ func TestLimits(t *testing.T) {
 		}
 		if _, err2 := infer.Infer(e); err2 == nil || err2.Error() != err.Error() {
 			t.Error(last, err2)
+		}
+	}
+}
+
+// single has a type of twice as many nodes, level by level, that has no variables for all of which it is told.
+func single(levels int, name, first, last string) string {
+	s := "let " + name + "0 = (fn z -> z) " + first + " in "
+	for i := 1; i <= levels; i++ {
+		was := name + strconv.Itoa(i-1)
+		s += "let " + name + strconv.Itoa(i) + " = (fn z -> z) {l = " + was + ", r = " + was + "} in "
+	}
+	return s + last
+}
+
+// P12.1: limits of one name's type, of two types that are to be one, of variables.
+func TestOtherLimits(t *testing.T) {
+	both := func(last string) string { return single(20, "a", "1", single(20, "b", "1", last)) }
+	great := "let p0 = fn a -> fn b -> a in "
+	for i := 1; i <= 8; i++ {
+		great += fmt.Sprintf("let p%d = {l = p%d, r = p%d} in ", i, i-1, i-1)
+	}
+	great += "{"
+	for i := range 25 {
+		great += fmt.Sprintf("q%d = (fn z -> 1) {a = p8, b = p8, c = p8, d = p8, e = p8, f = p8, g = p8, h = p8}, ", i)
+	}
+	great += "r = 1}"
+	for i, c := range []struct {
+		s    string
+		want api.Code
+	}{
+		{single(9, "a", "1", "1"), 0},
+		{single(20, "a", "1", "1"), api.ErrLimit},
+		{single(20, "a", "1", "1 1"), api.ErrType},
+		{single(20, "a", "1", `fn p -> let q = (fn x -> 1) (if 1 then p else a20) in let f = fn x -> x in f 1`), api.ErrLimit},
+		{single(20, "a", "1", `fn p -> let q = (fn x -> 1) (if 1 then p else a20) in let f = fn x -> x in f 1 2`), api.ErrType},
+		{single(20, "a", "1", `fn p -> let q = (fn x -> 1) (if 1 then p else a20) in let f = fn x -> x in 1 2`), api.ErrType},
+		{single(20, "a", "1", `let rec f x = a20 in 1`), api.ErrLimit},
+		{both("if 1 then a20 else b20"), api.ErrLimit},
+		{both("if 1 then a20 else {l = b19, r = 1}"), api.ErrType},
+		{great, api.ErrLimit},
+	} {
+		e := read(t, c.s)
+		got, err := infer.Type(e)
+		var s *api.Spot
+		if c.want == 0 {
+			if err != nil {
+				t.Error(i, err)
+			}
+			continue
+		}
+		if got != "" || !errors.As(err, &s) || s.Err != c.want || !slices.Contains(places(e), s.At) {
+			t.Error(i, got, err)
 		}
 	}
 }

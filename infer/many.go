@@ -77,9 +77,8 @@ func (w *work) generalize(n *node, names []*binder) {
 	}
 	for _, other := range names {
 		if !w.meet(other, metTypes, metRows) {
-			b.any = true
+			// As if it had no variables: so the name has more types than it may, but none less.
 			w.passed(n)
-			return
 		}
 	}
 	b.t = t

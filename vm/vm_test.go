@@ -243,6 +243,7 @@ func TestReadAndFuel(t *testing.T) {
 	}
 	deep := of(in(api.OpClos, 2, 1, 2, 2), in(api.OpApp, 3, 2, 2), in(api.OpBack, 0, 3))
 	deep.Funs[1].Code = []api.Instr{in(api.OpApp, 3, 1, 0), in(api.OpBack, 0, 3)}
+	deep.Funs[1].Regs = api.MaxRegs
 	if got := end(t, deep, integer, 10, 1000000); got != "fuel" {
 		t.Error(got)
 	}
