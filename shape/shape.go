@@ -1,4 +1,4 @@
-// Package shape tells how core expressions are built: which names they bind, and how many parts they have.
+// Package shape tells how expressions, and core expressions, are built: which names they bind, how many parts they have.
 package shape
 
 import "bushel/api"
@@ -40,4 +40,37 @@ func Parts(e *api.Core) bool {
 		return n == 1+2*len(e.Names)
 	}
 	return false
+}
+
+// ExprParts tells whether so many parts are as many as an expression's kind is to have, and a Match's names as many as its labels.
+func ExprParts(e *api.Expr, n int) bool {
+	switch e.Kind {
+	case api.Int, api.Text, api.Var, api.Read:
+		return n == 0
+	case api.Fn, api.Sel, api.Cut, api.Tag, api.Ref, api.Get, api.Print, api.Show:
+		return n == 1
+	case api.App, api.Let, api.Rec, api.Ext, api.Upd, api.Op, api.Set:
+		return n == 2
+	case api.If:
+		return n == 3
+	case api.Record:
+		return n == len(e.Labels)
+	case api.Match:
+		if e.T != "" {
+			n--
+		}
+		return n == 1+len(e.Labels) && len(e.Names) == len(e.Labels)
+	}
+	return false
+}
+
+// Union puts the smaller set of names into the larger one, which it tells: a long chain of parts costs little then.
+func Union(a, b map[string]struct{}) map[string]struct{} {
+	if len(a) < len(b) {
+		a, b = b, a
+	}
+	for s := range b {
+		a[s] = struct{}{}
+	}
+	return a
 }

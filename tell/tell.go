@@ -36,3 +36,30 @@ func (w *Writer) Quote(s string) {
 	}
 	w.Say(`"`)
 }
+
+// Part writes a part of a value, in brackets, if it needs them.
+func (w *Writer) Part(brackets bool, write func()) {
+	if !brackets {
+		write()
+		return
+	}
+	w.Say("(")
+	write()
+	w.Say(")")
+}
+
+// Fields writes a record's labels, and their values, as long as there is room.
+func (w *Writer) Fields(labels []string, write func(i int)) {
+	w.Say("{")
+	for i, s := range labels {
+		if w.Full() {
+			return
+		}
+		if i > 0 {
+			w.Say(", ")
+		}
+		w.Say(s, " = ")
+		write(i)
+	}
+	w.Say("}")
+}

@@ -49,21 +49,11 @@ func (r *machine) write(to *tell.Writer, w word.Word, t *api.Type) {
 			return
 		}
 		to.Say("ref ")
-		r.part(to, l[0], &t.L[0], t.L[0].Kind == api.TSum || t.L[0].Kind == api.TRef)
+		of := &t.L[0]
+		to.Part(of.Kind == api.TSum || of.Kind == api.TRef, func() { r.write(to, l[0], of) })
 	default:
 		to.Say("fn")
 	}
-}
-
-// part writes a value, in brackets, if it needs them.
-func (r *machine) part(to *tell.Writer, w word.Word, t *api.Type, brackets bool) {
-	if !brackets {
-		r.write(to, w, t)
-		return
-	}
-	to.Say("(")
-	r.write(to, w, t)
-	to.Say(")")
 }
 
 // tag writes a tagged value.
@@ -75,7 +65,7 @@ func (r *machine) tag(to *tell.Writer, w word.Word, t *api.Type) {
 	}
 	of := &t.L[l[0].V]
 	to.Say(t.Labels[l[0].V], " ")
-	r.part(to, l[1], of, of.Kind == api.TSum)
+	to.Part(of.Kind == api.TSum, func() { r.write(to, l[1], of) })
 }
 
 // fields writes a record.
@@ -85,16 +75,5 @@ func (r *machine) fields(to *tell.Writer, w word.Word, t *api.Type) {
 		r.bad()
 		return
 	}
-	to.Say("{")
-	for i, s := range t.Labels {
-		if to.Full() {
-			return
-		}
-		if i > 0 {
-			to.Say(", ")
-		}
-		to.Say(s, " = ")
-		r.write(to, l[i], &t.L[i])
-	}
-	to.Say("}")
+	to.Fields(t.Labels, func(i int) { r.write(to, l[i], &t.L[i]) })
 }
