@@ -2,7 +2,9 @@ package code_test
 
 import (
 	"bytes"
+	"encoding/binary"
 	"math"
+	"math/big"
 	"slices"
 	"strings"
 	"testing"
@@ -139,6 +141,85 @@ func TestCheck(t *testing.T) {
 		if got, err := code.Get(b); err != nil || !code.Same(got, c.m) {
 			t.Error(i, err)
 		}
+	}
+}
+
+// around are numbers of which some wrap round, where others are added or taken away.
+var around = []int{math.MinInt, math.MinInt + 1, math.MinInt + 2, math.MinInt + 3, -api.MaxRegs, -3, -2, -1, 0, 1, 2, 3, 4, 5,
+	api.MaxRegs - 3, api.MaxRegs - 2, api.MaxRegs - 1, api.MaxRegs, api.MaxRegs + 1, api.MaxRegs + 2, math.MaxInt - 2, math.MaxInt - 1, math.MaxInt}
+
+// mayHave tells, with numbers that never wrap round, whether a function may have so many registers, and captures.
+func mayHave(regs, caps int) bool {
+	least := new(big.Int).Add(big.NewInt(int64(caps)), big.NewInt(2))
+	return caps >= 0 && regs <= api.MaxRegs && least.Cmp(big.NewInt(int64(regs))) <= 0
+}
+
+// putAnyway are the bytes of an image of functions alone, sound or not.
+func putAnyway(funs ...api.Func) []byte {
+	var b []byte
+	put := func(n int) {
+		// A number below 0 is -2n - 1, which is twice its complement, and 1.
+		u := uint64(n) << 1
+		if n < 0 {
+			u = uint64(^n)<<1 + 1
+		}
+		b = binary.AppendUvarint(b, u)
+	}
+	b = append(b, 0, 0)
+	put(len(funs))
+	for _, f := range funs {
+		put(f.Regs)
+		put(f.Caps)
+		put(len(f.Code))
+		for _, i := range f.Code {
+			put(i.Op)
+			put(i.A)
+			put(len(i.L))
+			for _, n := range i.L {
+				put(n)
+			}
+		}
+	}
+	return b
+}
+
+// P19.1, P19.2: registers and captures by themselves, for no instruction names a register.
+func TestRegisters(t *testing.T) {
+	only := func(regs, caps int) api.Func {
+		return api.Func{Regs: regs, Caps: caps, Code: []api.Instr{in(api.OpGo, 0, 0)}}
+	}
+	check := func(sound bool, funs ...api.Func) {
+		t.Helper()
+		var want error = api.ErrCode
+		if sound {
+			want = nil
+		}
+		m, bytesOf := api.Image{Funs: funs}, putAnyway(funs...)
+		where := []int{len(funs), funs[len(funs)-1].Regs, funs[len(funs)-1].Caps}
+		if err := code.Check(m); err != want {
+			t.Error("Check", where, err)
+		}
+		if b, err := code.Put(m); err != want || sound != bytes.Equal(b, bytesOf) || !sound && len(b) > 0 {
+			t.Error("Put", where, b, err)
+		}
+		if got, err := code.Get(bytesOf); err != want || sound != code.Same(got, m) || !sound && !code.Same(got, api.Image{}) {
+			t.Error("Get", where, got, err)
+		}
+	}
+	sound := 0
+	for _, regs := range around {
+		for _, caps := range around {
+			may := mayHave(regs, caps)
+			if may {
+				sound++
+			}
+			check(may && caps == 0, only(regs, caps))
+			check(may, only(2, 0), only(regs, caps))
+			check(may && caps == 0, only(regs, caps), only(2, 0))
+		}
+	}
+	if sound < 20 {
+		t.Error(sound)
 	}
 }
 

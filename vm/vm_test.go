@@ -269,6 +269,7 @@ func TestRefuses(t *testing.T) {
 		{bad, integer, 10, api.ErrCode},
 		{bad, tp{}, 0, api.ErrCode},
 		{api.Image{}, integer, 10, api.ErrCode},
+		{api.Image{Funs: []api.Func{{Regs: math.MinInt, Code: []api.Instr{in(api.OpGo, 0, 0)}}}}, integer, 10, api.ErrCode},
 	} {
 		out, err := vm.Run(c.m, c.t, nil, c.half, 100)
 		if err != c.err || err != nil && (said(out) != "" || out.Err != 0) || err == nil && said(out) != "5" {
